@@ -4,6 +4,7 @@ import (
 	"strings"
 
 	"sheaf/api"
+	"sheaf/refusal"
 )
 
 // How many bytes the numbers have that stand in the bytes of a value.
@@ -60,12 +61,12 @@ type reader struct{ left string }
 // that Decode and Encode can't differ in what a value is.
 func parseBytes(s string) api.Value {
 	if len(s) > api.MaxBytes {
-		panic(refusal(api.ErrBytes))
+		panic(refusal.Error(api.ErrBytes))
 	}
 	r := reader{left: s}
 	v := r.value(0)
 	if r.left != "" || !isValue(v) {
-		panic(refusal(api.ErrBytes))
+		panic(refusal.Error(api.ErrBytes))
 	}
 	return v
 }
@@ -85,14 +86,14 @@ func (r *reader) value(around int) api.Value {
 	case api.List, api.Object:
 		return r.entries(kind, around+1)
 	}
-	panic(refusal(api.ErrBytes))
+	panic(refusal.Error(api.ErrBytes))
 }
 
 // entries gives up at once where it is too deep: bytes may nest so far that
 // walking to their ground would take a great stack.
 func (r *reader) entries(kind int, deep int) api.Value {
 	if deep > api.MaxDeep {
-		panic(refusal(api.ErrBytes))
+		panic(refusal.Error(api.ErrBytes))
 	}
 	v := api.Value{Kind: kind}
 	inner := reader{left: r.take(r.number(lengthBytes))}
@@ -120,7 +121,7 @@ func (r *reader) number(bytes uint64) uint64 {
 
 func (r *reader) take(n uint64) string {
 	if n > uint64(len(r.left)) {
-		panic(refusal(api.ErrBytes))
+		panic(refusal.Error(api.ErrBytes))
 	}
 	s := r.left[:n]
 	r.left = r.left[n:]

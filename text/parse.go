@@ -6,6 +6,7 @@ import (
 	"unicode/utf8"
 
 	"sheaf/api"
+	"sheaf/refusal"
 )
 
 // parser reads a JSON text from the place at on.
@@ -18,18 +19,18 @@ type parser struct {
 // whether names are different: what is no JSON text is told first.
 func parseText(s string) api.Value {
 	if len(s) > api.MaxText {
-		panic(refusal(api.ErrLong))
+		panic(refusal.Error(api.ErrLong))
 	}
 	p := parser{s: s}
 	v := p.value()
 	if p.at < len(s) {
-		panic(refusal(api.ErrText))
+		panic(refusal.Error(api.ErrText))
 	}
 	if depth(v) > api.MaxDeep {
-		panic(refusal(api.ErrDeep))
+		panic(refusal.Error(api.ErrDeep))
 	}
 	if hasNameTwice(v) {
-		panic(refusal(api.ErrTwice))
+		panic(refusal.Error(api.ErrTwice))
 	}
 	return v
 }
@@ -65,7 +66,7 @@ func (p *parser) word() api.Value {
 	case p.acceptWord("false"):
 		return api.Value{Kind: api.Bool, N: 0}
 	}
-	panic(refusal(api.ErrText))
+	panic(refusal.Error(api.ErrText))
 }
 
 func (p *parser) number() int64 {
@@ -76,11 +77,11 @@ func (p *parser) number() int64 {
 		p.at++
 	}
 	if p.at > digits+1 && p.s[digits] == '0' {
-		panic(refusal(api.ErrText))
+		panic(refusal.Error(api.ErrText))
 	}
 	n, err := strconv.ParseInt(p.s[start:p.at], 10, 64)
 	if err != nil {
-		panic(refusal(api.ErrText))
+		panic(refusal.Error(api.ErrText))
 	}
 	return n
 }
@@ -137,7 +138,7 @@ func (p *parser) letter() rune {
 	}
 	r, size := utf8.DecodeRuneInString(p.s[p.at:])
 	if r < 32 || r == utf8.RuneError && size <= 1 {
-		panic(refusal(api.ErrText))
+		panic(refusal.Error(api.ErrText))
 	}
 	p.at += size
 	return r
@@ -160,7 +161,7 @@ func (p *parser) escape() rune {
 	case 'u':
 		return p.codePoint()
 	}
-	panic(refusal(api.ErrText))
+	panic(refusal.Error(api.ErrText))
 }
 
 // codePoint reads what is behind \u, and a second escape where two are one rune.
@@ -170,13 +171,13 @@ func (p *parser) codePoint() rune {
 		return high
 	}
 	if high > 0xdbff {
-		panic(refusal(api.ErrText))
+		panic(refusal.Error(api.ErrText))
 	}
 	p.expect('\\')
 	p.expect('u')
 	low := p.fourDigits()
 	if low < 0xdc00 || low > 0xdfff {
-		panic(refusal(api.ErrText))
+		panic(refusal.Error(api.ErrText))
 	}
 	return 0x10000 + (high-0xd800)<<10 + (low - 0xdc00)
 }
@@ -198,7 +199,7 @@ func hexadecimal(c byte) rune {
 	case 'A' <= c && c <= 'F':
 		return rune(c-'A') + 10
 	}
-	panic(refusal(api.ErrText))
+	panic(refusal.Error(api.ErrText))
 }
 
 func isDigit(c byte) bool { return '0' <= c && c <= '9' }
@@ -218,7 +219,7 @@ func (p *parser) peek() byte {
 
 func (p *parser) next() byte {
 	if p.at == len(p.s) {
-		panic(refusal(api.ErrText))
+		panic(refusal.Error(api.ErrText))
 	}
 	p.at++
 	return p.s[p.at-1]
@@ -226,7 +227,7 @@ func (p *parser) next() byte {
 
 func (p *parser) expect(c byte) {
 	if p.next() != c {
-		panic(refusal(api.ErrText))
+		panic(refusal.Error(api.ErrText))
 	}
 }
 

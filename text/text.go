@@ -5,11 +5,13 @@ import (
 	"strings"
 
 	"sheaf/api"
+	"sheaf/order"
+	"sheaf/refusal"
 )
 
 // Parse reads a value (P3).
 func Parse(s string) (api.Value, api.Errno) {
-	return attempt(func() api.Value { return parseText(s) })
+	return refusal.Attempt(func() api.Value { return parseText(s) })
 }
 
 // Print writes a value (P4).
@@ -32,7 +34,7 @@ func Encode(v api.Value) (string, api.Errno) {
 
 // Decode makes a value of bytes (P5).
 func Decode(s string) (api.Value, api.Errno) {
-	return attempt(func() api.Value { return parseBytes(s) })
+	return refusal.Attempt(func() api.Value { return parseBytes(s) })
 }
 
 // Compare tells which of two values is the greater one (P6).
@@ -40,5 +42,5 @@ func Compare(a api.Value, b api.Value) (int, api.Errno) {
 	if !isValue(a) || !isValue(b) {
 		return 0, api.ErrValue
 	}
-	return compare(a, b), api.OK
+	return order.Compare(a, b), api.OK
 }

@@ -1,4 +1,4 @@
-package text
+package refusal
 
 import (
 	"errors"
@@ -8,12 +8,19 @@ import (
 )
 
 func TestAttemptRecoversRefusals(t *testing.T) {
-	v, errno := attempt(func() api.Value { panic(refusal(api.ErrDeep)) })
+	v, errno := Attempt(func() api.Value { panic(Error(api.ErrDeep)) })
 	if v.Kind != 0 || errno != api.ErrDeep {
 		t.Errorf("P1: %v, %d", v, errno)
 	}
-	if v, errno := attempt(func() api.Value { return api.Value{Kind: api.Null} }); v.Kind != api.Null || errno != api.OK {
-		t.Errorf("P1: %v, %d", v, errno)
+	if n, errno := Attempt(func() int { return 7 }); n != 7 || errno != api.OK {
+		t.Errorf("P1: %d, %d", n, errno)
+	}
+}
+
+func TestRefusalIsAnErrorThatTellsItsNumber(t *testing.T) {
+	var err error = Error(api.ErrFilter)
+	if err.Error() != "sheaf: refused with error 8" {
+		t.Error(err)
 	}
 }
 
@@ -25,5 +32,5 @@ func TestAttemptHidesNoFault(t *testing.T) {
 			t.Errorf("recovered %v", r)
 		}
 	}()
-	attempt(func() api.Value { panic(fault) })
+	Attempt(func() int { panic(fault) })
 }
