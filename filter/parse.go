@@ -1,19 +1,13 @@
 package filter
 
 import (
-	"strings"
-
 	"sheaf/api"
 	"sheaf/path"
+	"sheaf/query"
 	"sheaf/refusal"
 )
 
-// need gives up unless what must be is so.
-func need(ok bool) {
-	if !ok {
-		panic(refusal.Error(api.ErrFilter))
-	}
-}
+func need(ok bool) { refusal.Unless(ok, api.ErrFilter) }
 
 func parseFilter(v api.Value) Filter {
 	need(v.Kind == api.Object)
@@ -33,13 +27,11 @@ func parseCondition(name string, v api.Value) condition {
 	case "$nor":
 		return noneHold(parseFilters(v))
 	}
-	need(!isOperator(name))
+	need(!query.IsOperator(name))
 	p, ok := path.Parse(name)
 	need(ok)
 	return valueHas{path: p, tests: parseExpected(v)}
 }
-
-func isOperator(name string) bool { return strings.HasPrefix(name, "$") }
 
 func parseFilters(v api.Value) []Filter {
 	need(v.Kind == api.List && len(v.L) > 0)
@@ -53,7 +45,7 @@ func parseFilters(v api.Value) []Filter {
 // parseExpected reads what stands behind a path: tests, or a value that is
 // asked for as the test for an equal one would do.
 func parseExpected(v api.Value) tests {
-	if v.Kind == api.Object && len(v.K) > 0 && isOperator(v.K[0]) {
+	if v.Kind == api.Object && len(v.K) > 0 && query.IsOperator(v.K[0]) {
 		return parseTests(v)
 	}
 	return tests{{operator: "$eq", value: v}}

@@ -33,6 +33,30 @@ func (p Path) From(v api.Value) (api.Value, bool) {
 	return v, true
 }
 
+// OrNull is the value to which the path leads from v, or Null if it is missing.
+func (p Path) OrNull(v api.Value) api.Value {
+	if found, there := p.From(v); there {
+		return found
+	}
+	return api.Value{Kind: api.Null}
+}
+
+// Put is v with another value in the place to which the path leads, and v
+// itself if that is nowhere. What v has is not written into: others have it, too.
+func (p Path) Put(v, other api.Value) api.Value {
+	if len(p) == 0 {
+		return other
+	}
+	at := placeOf(p[0], v)
+	if at < 0 {
+		return v
+	}
+	inner := slices.Clone(v.L)
+	inner[at] = p[1:].Put(inner[at], other)
+	v.L = inner
+	return v
+}
+
 // placeOf is where in v's values a step leads to, or -1.
 func placeOf(name string, v api.Value) int {
 	switch v.Kind {

@@ -41,6 +41,12 @@ func TestWhereAPathLeads(t *testing.T) {
 		if there != (want != "") || got != want {
 			t.Errorf("%s leads to %q, %t, want %q", s, got, there, want)
 		}
+		if !there {
+			want = "null"
+		}
+		if got, _ := text.Print(p.OrNull(doc)); got != want {
+			t.Errorf("%s leads to %q, or Null, want %q", s, got, want)
+		}
 	}
 }
 
@@ -49,5 +55,23 @@ func TestLongPathsLeadNowhere(t *testing.T) {
 	p, ok := path.Parse("a" + strings.Repeat(".0", 1990))
 	if v, there := p.From(doc); !ok || there || v.Kind != 0 {
 		t.Errorf("%t, %v, %t", ok, v, there)
+	}
+}
+
+func TestPut(t *testing.T) {
+	const written = `{"a":{"b":[10,[20,21]],"c":1},"d":[],"$e":{"f":null}}`
+	for s, want := range map[string]string{
+		"a": `{"a":"new","d":[],"$e":{"f":null}}`, "a.b": `{"a":{"b":"new","c":1},"d":[],"$e":{"f":null}}`, "a.b.0": `{"a":{"b":["new",[20,21]],"c":1},"d":[],"$e":{"f":null}}`, "a.b.1.1": `{"a":{"b":[10,[20,"new"]],"c":1},"d":[],"$e":{"f":null}}`, "d": `{"a":{"b":[10,[20,21]],"c":1},"d":"new","$e":{"f":null}}`, "$e.f": `{"a":{"b":[10,[20,21]],"c":1},"d":[],"$e":{"f":"new"}}`,
+		"x": written, "a.x": written, "a.b.2": written, "d.0": written, "a.c.d": written, "$e.f.g": written,
+	} {
+		doc, _ := text.Parse(written)
+		p, _ := path.Parse(s)
+		put := p.Put(doc, api.Value{Kind: api.Text, S: "new"})
+		if got, errno := text.Print(put); got != want || errno != api.OK {
+			t.Errorf("P10: with a new value at %s: %s, %d, want %s", s, got, errno, want)
+		}
+		if got, _ := text.Print(doc); got != written {
+			t.Errorf("P2: a new value at %s has written into %s", s, got)
+		}
 	}
 }

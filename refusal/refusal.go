@@ -13,6 +13,13 @@ type Error api.Errno
 
 func (e Error) Error() string { return "sheaf: refused with error " + strconv.Itoa(int(e)) }
 
+// Unless gives up if something is not as it must be.
+func Unless(ok bool, errno api.Errno) {
+	if !ok {
+		panic(Error(errno))
+	}
+}
+
 // Attempt is the top at which the parsers' panics are recovered. Any other
 // panic would be a fault of the program, which is not to pass for a refusal.
 func Attempt[T any](parse func() T) (answer T, errno api.Errno) {

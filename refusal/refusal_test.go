@@ -17,6 +17,14 @@ func TestAttemptRecoversRefusals(t *testing.T) {
 	}
 }
 
+func TestUnlessGivesUpOnlyIfSomethingIsNotSo(t *testing.T) {
+	for ok, want := range map[bool]api.Errno{true: api.OK, false: api.ErrPipe} {
+		if n, errno := Attempt(func() int { Unless(ok, api.ErrPipe); return 0 }); n != 0 || errno != want {
+			t.Errorf("P1: Unless(%t) = %d, %d", ok, n, errno)
+		}
+	}
+}
+
 func TestRefusalIsAnErrorThatTellsItsNumber(t *testing.T) {
 	var err error = Error(api.ErrFilter)
 	if err.Error() != "sheaf: refused with error 8" {

@@ -4,12 +4,11 @@ import (
 	"slices"
 
 	"sheaf/api"
+	"sheaf/document"
 	"sheaf/filter"
+	"sheaf/pipe"
 	"sheaf/text"
 )
-
-// idName is the name of the entry by which a document is told from others.
-const idName = "_id"
 
 func isName(s string) bool {
 	for i := range len(s) {
@@ -28,26 +27,21 @@ func readDocument(s string) (api.Value, api.Errno) {
 	if !isDocument(d) {
 		return api.Value{}, api.ErrDoc
 	}
-	if isTooBig(d) {
+	if document.IsTooBig(d) {
 		return api.Value{}, api.ErrBig
 	}
 	return d, api.OK
 }
 
 func isDocument(v api.Value) bool {
-	if v.Kind != api.Object || !slices.Contains(v.K, idName) {
+	if v.Kind != api.Object || !slices.Contains(v.K, document.IDName) {
 		return false
 	}
 	kind := idOf(v).Kind
 	return kind == api.Number || kind == api.Text
 }
 
-func idOf(doc api.Value) api.Value { return doc.L[slices.Index(doc.K, idName)] }
-
-func isTooBig(doc api.Value) bool {
-	bytes, errno := text.Encode(doc)
-	return errno != api.OK || len(bytes) > api.MaxDoc
-}
+func idOf(doc api.Value) api.Value { return doc.L[slices.Index(doc.K, document.IDName)] }
 
 // printed takes for granted that the documents are values.
 func printed(docs []api.Value) []string {
@@ -59,20 +53,29 @@ func printed(docs []api.Value) []string {
 	return texts
 }
 
-// search reads a filter ahead of asking for the collection: what is wrong with
-// the filter is told first.
 func (s *Store) search(name, query string) (*collection, filter.Filter, api.Errno) {
+	return read(s, name, query, filter.Parse)
+}
+
+func (s *Store) task(name, query string) (*collection, pipe.Pipeline, api.Errno) {
+	return read(s, name, query, pipe.Parse)
+}
+
+// read reads what is asked for ahead of looking for the collection: what is
+// wrong with it is told first.
+func read[Q any](s *Store, name, query string, parse func(api.Value) (Q, api.Errno)) (*collection, Q, api.Errno) {
+	var none Q
 	v, errno := text.Parse(query)
 	if errno != api.OK {
-		return nil, nil, errno
+		return nil, none, errno
 	}
-	f, errno := filter.Parse(v)
+	q, errno := parse(v)
 	if errno != api.OK {
-		return nil, nil, errno
+		return nil, none, errno
 	}
 	c := s.collections[name]
 	if c == nil {
-		return nil, nil, api.ErrNone
+		return nil, none, api.ErrNone
 	}
-	return c, f, api.OK
+	return c, q, api.OK
 }
