@@ -32,6 +32,17 @@ func (f Filter) Holds(doc api.Value) bool {
 	return true
 }
 
+// Among is those documents of which the filter holds, as they came.
+func (f Filter) Among(docs []api.Value) []api.Value {
+	var held []api.Value
+	for _, doc := range docs {
+		if f.Holds(doc) {
+			held = append(held, doc)
+		}
+	}
+	return held
+}
+
 // What the filters in a list have to do for the condition to hold.
 type (
 	allHold  []Filter

@@ -12,13 +12,7 @@ import (
 type match struct{ filter.Filter }
 
 func (m match) run(docs []api.Value) ([]api.Value, int, api.Errno) {
-	var held []api.Value
-	for _, doc := range docs {
-		if m.Holds(doc) {
-			held = append(held, doc)
-		}
-	}
-	return held, 0, api.OK
+	return m.Among(docs), 0, api.OK
 }
 
 // count is what the stages have in common that count documents off.

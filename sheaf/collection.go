@@ -28,16 +28,6 @@ func (c *collection) hasID(id api.Value) bool {
 	return slices.ContainsFunc(c.docs, func(doc api.Value) bool { return order.Equal(idOf(doc), id) })
 }
 
-func (c *collection) find(f filter.Filter) []api.Value {
-	var found []api.Value
-	for _, doc := range c.docs {
-		if f.Holds(doc) {
-			found = append(found, doc)
-		}
-	}
-	return found
-}
-
 // remove answers how many documents it takes away.
 func (c *collection) remove(f filter.Filter) int {
 	before := len(c.docs)
